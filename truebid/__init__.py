@@ -1,0 +1,1 @@
+"""Truebid: things sold by bids, so that nobody gains by a lie."""

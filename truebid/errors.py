@@ -1,0 +1,17 @@
+"""The refusals of the program."""
+
+
+class SaleError(ValueError):
+    pass
+
+
+class NoSale(SaleError):
+    pass
+
+
+class NoText(SaleError):
+    pass
+
+
+class NoRoom(SaleError):
+    pass
