@@ -1,4 +1,24 @@
-"""Sales, and things that are none, for the tests."""
+"""Sales, and things that are none, for the tests, and how a thing is asked there."""
+
+import itertools
+import unittest
+
+
+class Told(unittest.TestCase):
+    """Asks each thing twice: the answers are the same, and what was handed in is as it was."""
+
+    def asked(self, ask, *things):
+        # repr tells True from 1 and a list from a tuple, and it is kept when a list is changed.
+        before = repr(things)
+        answer = ask(*things)
+        first = repr(answer)
+        self.assertEqual(repr(ask(*things)), first)
+        self.assertEqual(repr(things), before)
+        return answer
+
+    def told(self, expected, ask, *things):
+        with self.subTest(ask=ask.__name__, things=things):
+            self.assertEqual(repr(self.asked(ask, *things)), repr(expected))
 
 
 def nested_tuple(depth, innermost):
@@ -99,3 +119,41 @@ def no_sales():
     for bid in (-1, -1000000, 1000001, 10 ** 30, -10 ** 30, None) + no_numbers():
         things += sales_with_bid(bid)
     return things
+
+
+SHAPES = tuple(itertools.product(range(1, 7), range(1, 7)))
+
+# Guests, things and the greatest bid, few enough to try every such sale.
+SMALL_SHAPES = ((1, 1, 6), (1, 2, 4), (2, 1, 4), (2, 2, 3), (1, 3, 3), (3, 1, 3), (2, 3, 1), (3, 2, 1))
+
+
+def all_sales(guests, things, greatest_bid):
+    """Every sale of this shape with bids from 0 to the given one."""
+    rows = list(itertools.product(range(greatest_bid + 1), repeat=things))
+    return list(itertools.product(rows, repeat=guests))
+
+
+def mixed_sales(guests, things, greatest_bid, count):
+    """Some sales of this shape with bids from 0 to the given one, the same at each call."""
+    sales = []
+    state = guests * 1009 + things * 9176 + greatest_bid * 31 + 7
+    for _ in range(count):
+        bids = []
+        for _ in range(guests * things):
+            state = (state * 6364136223846793005 + 1442695040888963407) % 2 ** 64
+            bids.append((state >> 33) % (greatest_bid + 1))
+        sales.append(tuple(tuple(bids[k * things:(k + 1) * things]) for k in range(guests)))
+    return sales
+
+
+def all_givings(sale):
+    """Every giving of the sale."""
+    givings = [()]
+    for _ in sale:
+        givings = [
+            giving + (thing,)
+            for giving in givings
+            for thing in (None, *range(len(sale[0])))
+            if thing is None or thing not in giving
+        ]
+    return givings

@@ -1,7 +1,6 @@
-import copy
 import unittest
 
-from tests.samples import SALES, nested_list, nested_tuple, no_numbers, no_sales, no_tuples, sales_with_bid
+from tests.samples import SALES, Told, nested_list, nested_tuple, no_numbers, no_sales, no_tuples, sales_with_bid
 from truebid.things import are_prices, is_giving, is_sale
 
 # Three guests and two things, and two guests and three things.
@@ -13,18 +12,6 @@ FULL = ((1, 2, 3, 4, 5, 6),) * 6
 
 def put(thing, place, part):
     return thing[:place] + (part,) + thing[place + 1:]
-
-
-class Told(unittest.TestCase):
-    """Asks each thing twice: the answers are the same, and what was handed in is as it was."""
-
-    def told(self, expected, ask, *things):
-        before = copy.deepcopy(things)
-        with self.subTest(ask=ask.__name__, things=things):
-            self.assertIs(ask(*things), expected)
-            self.assertIs(ask(*things), expected)
-            # repr tells True from 1, which == does not.
-            self.assertEqual(repr(things), repr(before))
 
 
 class IsSale(Told):
