@@ -1,5 +1,6 @@
 """Sales, and things that are none, for the tests, and how a thing is asked there."""
 
+import functools
 import itertools
 import unittest
 
@@ -19,6 +20,17 @@ class Told(unittest.TestCase):
     def told(self, expected, ask, *things):
         with self.subTest(ask=ask.__name__, things=things):
             self.assertEqual(repr(self.asked(ask, *things)), repr(expected))
+
+    def refused(self, refusal, ask, *things):
+        before = repr(things)
+        for _ in range(2):
+            try:
+                answer = ask(*things)
+            except Exception as error:
+                self.assertIs(type(error), refusal)
+            else:
+                self.fail(f"answered {answer!r}")
+        self.assertEqual(repr(things), before)
 
 
 def nested_tuple(depth, innermost):
@@ -144,6 +156,30 @@ def mixed_sales(guests, things, greatest_bid, count):
             bids.append((state >> 33) % (greatest_bid + 1))
         sales.append(tuple(tuple(bids[k * things:(k + 1) * things]) for k in range(guests)))
     return sales
+
+
+@functools.cache
+def small_sales():
+    """Sales that are small enough to try all their givings, prices and rows."""
+    sales = []
+    for guests, things, greatest_bid in SMALL_SHAPES:
+        sales += all_sales(guests, things, greatest_bid)
+    for guests, things, count in (
+        (2, 3, 100), (3, 2, 100), (4, 2, 40), (2, 4, 15), (3, 3, 60), (5, 1, 20), (6, 1, 20), (1, 4, 10),
+    ):
+        for greatest_bid in (1, 2, 3):
+            sales += mixed_sales(guests, things, greatest_bid, count)
+    return sales
+
+
+def all_prices(sale):
+    """All prices from 0 to one above every bid; as nobody wants a thing at such a price, higher ones are alike."""
+    return itertools.product(range(max(max(row) for row in sale) + 2), repeat=len(sale[0]))
+
+
+def all_rows(sale, greatest_bid):
+    """Every row for a guest of the sale with bids from 0 to the given one."""
+    return list(itertools.product(range(greatest_bid + 1), repeat=len(sale[0])))
 
 
 def all_givings(sale):

@@ -1,8 +1,7 @@
 import functools
-import itertools
 import unittest
 
-from tests.samples import SALES, SHAPES, SMALL_SHAPES, Told, all_givings, all_sales, mixed_sales
+from tests.samples import SALES, SHAPES, Told, all_givings, all_prices, mixed_sales, small_sales
 from truebid.fair import greatest, is_fair, least
 from truebid.givings import best, worth_of
 from truebid.things import are_prices
@@ -14,24 +13,6 @@ def is_fair_by_words(sale, giving, prices):
         if gains[-1 if thing is None else thing] != max(gains):
             return False
     return not any(price for thing, price in enumerate(prices) if thing not in giving)
-
-
-@functools.cache
-def small_sales():
-    sales = []
-    for guests, things, greatest_bid in SMALL_SHAPES:
-        sales += all_sales(guests, things, greatest_bid)
-    for guests, things, count in (
-        (2, 3, 100), (3, 2, 100), (4, 2, 40), (2, 4, 15), (3, 3, 60), (5, 1, 20), (6, 1, 20), (1, 4, 10),
-    ):
-        for greatest_bid in (1, 2, 3):
-            sales += mixed_sales(guests, things, greatest_bid, count)
-    return sales
-
-
-def all_prices(sale):
-    """All prices from 0 to one above every bid: a price above every bid is never fair, so higher ones aren't needed."""
-    return itertools.product(range(max(max(row) for row in sale) + 2), repeat=len(sale[0]))
 
 
 @functools.cache

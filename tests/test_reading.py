@@ -55,15 +55,6 @@ def is_writing(text):
 
 
 class Read(Told):
-    def refused(self, text):
-        for _ in range(2):
-            try:
-                sale = read(text)
-            except Exception as error:
-                self.assertIs(type(error), NoText)
-            else:
-                self.fail(f"read to {sale!r}")
-
     def test_writings(self):
         for sale, text in WRITINGS:
             self.told(sale, read, text)
@@ -82,20 +73,20 @@ class Read(Told):
     def test_wrong_texts(self):
         for text in WRONG_TEXTS:
             with self.subTest(text=text[:40], length=len(text)):
-                self.refused(text)
+                self.refused(NoText, read, text)
 
     def test_many_figures_in_any_place(self):
         for figures in MANY_FIGURES + MANY_NOUGHTS:
             for text in (f"{figures} 1", f"1 {figures}", f"{figures} ; 1", f"1 ; {figures}", f"1 2 ; {figures} 3"):
                 with self.subTest(length=len(text)):
-                    self.refused(text)
+                    self.refused(NoText, read, text)
 
     def checked(self, text):
         with self.subTest(text=text):
             if is_writing(text):
                 self.assertEqual(written(self.asked(read, text)), text)
             else:
-                self.refused(text)
+                self.refused(NoText, read, text)
 
     def test_a_sign_more_in_any_place(self):
         for text in ("7", "0", "1000000", "3 5", "3 ; 5", "10 5 ; 2 0", "1 2 ; 3 4 ; 5 6"):

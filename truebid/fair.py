@@ -1,5 +1,6 @@
 """Prices that are fair with a giving, the least of them and the greatest."""
 
+from truebid.changing import thing_left_out, thing_put_behind
 from truebid.givings import most
 from truebid.things import thing_count
 
@@ -8,7 +9,7 @@ def gain_by(row, prices, thing):
     return 0 if thing is None else row[thing] - prices[thing]
 
 
-# The 0 is the gain by None, which is open to every guest.
+# The 0 is the gain by None, which every guest may choose.
 def greatest_gain(row, prices):
     return max([0] + [bid - price for bid, price in zip(row, prices)])
 
@@ -21,12 +22,7 @@ def is_fair(sale, giving, prices):
 
 
 def with_another_like(sale, thing):
-    return tuple([row + (row[thing],) for row in sale])
-
-
-# What is left may be no sale: of an only thing it leaves rows without bids, where only None can be given.
-def with_none_of(sale, thing):
-    return tuple([row[:thing] + row[thing + 1:] for row in sale])
+    return thing_put_behind(sale, [row[thing] for row in sale])
 
 
 # At fair prices no giving is worth more than all gains and prices together. So another thing like
@@ -40,4 +36,4 @@ def least(sale):
 # and the greatest fair price is just what is lost.
 def greatest(sale):
     worth = most(sale)
-    return tuple([worth - most(with_none_of(sale, thing)) for thing in range(thing_count(sale))])
+    return tuple([worth - most(thing_left_out(sale, thing)) for thing in range(thing_count(sale))])
